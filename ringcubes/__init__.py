@@ -1,0 +1,1 @@
+"""Ringcubes: drawn strings, both smoothings of their crossings, and what stays."""
