@@ -39,10 +39,10 @@ def add_times(total, more, times):
     """Add so many times the sum more to the sum total."""
     for key in more:
         number = total.get(key, 0) + times * more[key]
-        if number == 0:
-            del total[key]
-        else:
+        if number != 0:
             total[key] = number
+        elif key in total:
+            del total[key]
 
 
 def led_on(told, table):
