@@ -17,7 +17,6 @@ class Twin:
     def goals_from(self, start, goal):
         """A dict that leads the crossings of the piece of start on, start to goal; None if it cannot be."""
         goals = {start: goal}
-        taken = {goal: start}
         todo = [start]
         while todo:
             index = todo.pop()
@@ -28,17 +27,17 @@ class Twin:
                 twin, twin_slot = other_end(self.far, self.far_into, self.far_out, goals[index], slot)
                 if slot_there != twin_slot:
                     return None
-                if mate not in goals and twin not in taken:
+                if mate not in goals:
                     goals[mate] = twin
-                    taken[twin] = mate
                     todo.append(mate)
-                if mate not in goals or goals[mate] != twin:
+                elif goals[mate] != twin:
                     return None
         return goals
 
     def goals_of_piece(self, piece, other_pieces):
         """The crossings of a piece led to one of the other pieces, with its index; None if none is alike."""
         for at, rows in enumerate(other_pieces):
+            # Of as many crossings: so no two crossings of a piece that hangs together are led to one.
             if len(rows) != len(piece):
                 continue
             for goal in rows:

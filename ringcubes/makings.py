@@ -2,9 +2,9 @@
 
 from math import gcd
 
-from ringcubes.drawings import MOST_CROSSINGS, MOST_RINGS, Drawing, checked_drawing, need_arc, need_drawing
+from ringcubes.drawings import checked_drawing, need_arc, need_drawing
 from ringcubes.ends import into_spots
-from ringcubes.errors import BadTable, TooMany
+from ringcubes.errors import BadTable
 from ringcubes.kinds import ascending, is_number, is_spot
 from ringcubes.rooms import need_whole
 from ringcubes.spans import divisor_chain
@@ -31,20 +31,11 @@ def rows_beside(one, other):
     return rows
 
 
-def need_room(one, other):
-    """TooMany(20) or TooMany(8) if two drawings are too much together."""
-    if len(one.crossings) + len(other.crossings) > MOST_CROSSINGS:
-        raise TooMany(MOST_CROSSINGS)
-    if one.rings + other.rings > MOST_RINGS:
-        raise TooMany(MOST_RINGS)
-
-
 def side_by_side(one, other):
     """The drawing of both drawings side by side."""
     need_drawing(one)
     need_drawing(other)
-    need_room(one, other)
-    return Drawing(rows_beside(one, other), one.rings + other.rings)
+    return checked_drawing(rows_beside(one, other), one.rings + other.rings)
 
 
 def joined_at(one, arc, other, mate):
@@ -53,7 +44,6 @@ def joined_at(one, arc, other, mate):
     need_drawing(other)
     need_arc(one, arc)
     need_arc(other, mate)
-    need_room(one, other)
     rows = [list(crossing) for crossing in rows_beside(one, other)]
     name = names_beside(one, other)[mate]
     into = into_spots(rows)

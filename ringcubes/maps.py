@@ -3,8 +3,8 @@
 from ringcubes.drawings import need_cube, need_drawing
 from ringcubes.kinds import need_number
 from ringcubes.steps import Cube
-from ringcubes.tables import (is_paper_form, is_sum_form, is_table_form, led_on, need_paper, need_table,
-                              paper_behind, paper_turned, table_behind, table_sum)
+from ringcubes.tables import (add_times, is_paper_form, is_table_form, led_on, need_paper, need_table, paper_behind,
+                              paper_turned, table_behind, table_sum)
 
 
 def plain_table(cube):
@@ -39,7 +39,7 @@ def rises(one, other, up, more, thing):
     if not is_table_form(thing):
         return False
     for state in thing:
-        if not one.has_state(state) or not is_sum_form(thing[state]):
+        if not one.has_state(state):
             return False
         height, weight = one.spot_of(state)
         for goal in thing[state]:
@@ -48,25 +48,20 @@ def rises(one, other, up, more, thing):
     return True
 
 
+def stepped(cube, told):
+    """The sum to which the step leads a sum."""
+    total = {}
+    for state in told:
+        add_times(total, cube.step_from(state), told[state])
+    return total
+
+
 def goes_along(one, other, table):
     """Whether a table goes along with the steps of both cubes."""
     for state in one.all_states():
-        stepped = {}
-        if state in table:
-            for goal in table[state]:
-                add_step(stepped, other, goal, table[state][goal])
-        if led_on(one.step_from(state), table) != stepped:
+        if led_on(one.step_from(state), table) != stepped(other, table.get(state, {})):
             return False
     return True
-
-
-def add_step(total, cube, state, times):
-    """Add so many times the step of a state to the sum total."""
-    led = cube.step_from(state)
-    for goal in led:
-        total[goal] = total.get(goal, 0) + times * led[goal]
-        if total[goal] == 0:
-            del total[goal]
 
 
 def is_map_of(one, other, more, thing):
@@ -91,9 +86,7 @@ def is_bridge_of(one, other, more, gap, thing):
     met = 0
     for state in one.all_states():
         total = led_on(one.step_from(state), thing)
-        if state in thing:
-            for goal in thing[state]:
-                add_step(total, other, goal, thing[state][goal])
+        add_times(total, stepped(other, thing.get(state, {})), 1)
         if total != gap.get(state, {}):
             return False
         if state in gap:

@@ -178,7 +178,7 @@ class MapTest(unittest.TestCase):
 
     def test_refuses(self):
         for thing in NO_DRAWINGS:
-            self.assertEqual(told_error(is_map, thing, thing, None, None), ("BadDrawing", None))
+            self.assertEqual(told_error(is_map, thing, KINK, None, None), ("BadDrawing", None))
             self.assertEqual(told_error(is_map, KINK, thing, None, None), ("BadDrawing", None))
         for thing in NO_NUMBERS:
             self.assertEqual(told_error(is_map, BIG, BIG, thing, None), ("BadNumber", "more"), thing)
@@ -274,7 +274,7 @@ class BridgeTest(unittest.TestCase):
     def test_refuses(self):
         right = {A: {B: 1}}
         for thing in NO_DRAWINGS:
-            self.assertEqual(told_error(is_bridge, thing, None, None, None, None, None), ("BadDrawing", None))
+            self.assertEqual(told_error(is_bridge, thing, KINK, None, None, None, None), ("BadDrawing", None))
             self.assertEqual(told_error(is_bridge, KINK, thing, None, None, None, None), ("BadDrawing", None))
         for thing in NO_NUMBERS:
             self.assertEqual(told_error(is_bridge, BIG, BIG, thing, None, None, None), ("BadNumber", "more"), thing)
@@ -343,7 +343,7 @@ class PaperTest(unittest.TestCase):
 
     def test_refuses(self):
         for thing in NO_DRAWINGS:
-            self.assertEqual(told_error(is_paper, thing, None, None), ("BadDrawing", None))
+            self.assertEqual(told_error(is_paper, thing, KINK, None), ("BadDrawing", None))
             self.assertEqual(told_error(is_paper, KINK, thing, None), ("BadDrawing", None))
         self.assertEqual(told_error(is_paper, BIG, KINK, None), ("TooMany", 10))
         self.assertEqual(told_error(is_paper, KINK, BIG, None), ("TooMany", 10))

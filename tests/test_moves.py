@@ -324,6 +324,12 @@ class ThirdMoveTest(unittest.TestCase):
                 seen.add((three, told))
         self.assertEqual(seen, {(True, None), (True, ("NotHere",)), (False, ("NotHere",))})
 
+    def test_three_corners_at_two_crossings(self):
+        drawing = Drawing([(1, 3, 1, 1, 0), (1, 2, 3, 0, 2)], 0)
+        self.assertEqual(faces(drawing)[:2], [((0, 0), (1, 3), (1, 1)), ((0, 1), (0, 3), (1, 2))])
+        for index in range(len(faces(drawing))):
+            self.assertEqual(told_error(slid, drawing, index), ("NotHere",))
+
     def levels(self, face):
         """How many times each of the three strands goes over."""
         found = []

@@ -114,6 +114,26 @@ class ViewsTest(unittest.TestCase):
             self.assertIs(alike(one, other), False)
             self.assertIs(alike(other, one), False)
 
+    def test_pieces_of_one_size(self):
+        plus, minus = (1, 0, 1, 1, 0), (-1, 2, 3, 3, 2)
+        twice = Drawing([plus, (1, 2, 3, 3, 2)], 0)
+        both = Drawing([plus, minus], 0)
+        for one, other in ((twice, both), (KINK, twice), (HOPF, Drawing(HOPF.crossings + ((1, 8, 9, 9, 8),), 0)),
+                           (closed_braid(4, [1, 1, 3, -3]), closed_braid(4, [1, 1, 3, 3]))):
+            self.assertIs(alike(one, other), False)
+            self.assertIs(alike(other, one), False)
+        self.assertIs(alike(both, Drawing([minus, plus], 0)), True)
+
+    def test_strands_by_turns(self):
+        # In all of these each arc goes over one crossing and under the next one: so only the whole tells them apart.
+        words = ([1, -2, 1, -2], [1, 1, -2, -2], [1, -2, -2, 1])
+        longer = ([1, -2, 1, -2, 1, -2], [1, 1, -2, -2, 1, -2], [1, 1, 1, -2, -2, -2], [1, -2, -2, 1, -2, 1])
+        for group in (words, longer):
+            for one, other in itertools.product(group, repeat=2):
+                near, far = closed_braid(3, one), shuffled(closed_braid(3, other), 7)
+                self.assertIs(alike(near, far), is_alike_by_force(near, far))
+        self.assertIs(alike(closed_braid(3, words[0]), closed_braid(3, words[1])), False)
+
     def test_one_crossing_or_direction_changed(self):
         for drawing in (TREFOIL, EIGHT, BORROMEAN):
             for at, (s, a, b, c, d) in enumerate(drawing.crossings):
