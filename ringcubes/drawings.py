@@ -1,6 +1,6 @@
 """Drawings, their ways and their pieces."""
 
-from ringcubes.ends import arcs_of, is_crossing, is_plane, is_tied, piece_rows
+from ringcubes.ends import arcs_of, is_crossing, is_plane, is_tied, piece_rows, star_of
 from ringcubes.errors import BadArc, BadCrossing, BadDrawing, BadWay, TooMany
 from ringcubes.kinds import is_between, is_index, is_list, is_number
 
@@ -19,13 +19,14 @@ class Drawing:
             raise BadDrawing("crossings")
         if not is_between(rings, 0, MOST_RINGS):
             raise BadDrawing("rings")
-        if not is_tied(crossings):
+        stars = [star_of(crossing) for crossing in crossings]
+        if not is_tied(stars):
             raise BadDrawing("arcs")
-        if not is_plane(crossings):
+        if not is_plane(stars):
             raise BadDrawing("plane")
         self.crossings = tuple(crossings)
         self.rings = rings
-        self.arcs = arcs_of(crossings)
+        self.arcs = arcs_of(stars)
         self.plus = len([crossing for crossing in crossings if crossing[0] == 1])
         self.minus = len(crossings) - self.plus
 

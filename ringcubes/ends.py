@@ -1,7 +1,8 @@
 """The four ends of crossings and how arcs tie them: what drawings, faces and moves share.
 
 Here crossings are rows (sign, under_in, under_out, over_in, over_out); a slot is the index
-in such a row, a place the number of an end, going round the crossing to the left.
+in such a row, a place the number of an end, going round the crossing to the left. A star tells
+the ends alone, of whatever stands where arcs begin and end: pairs (arc, whether it begins there).
 """
 
 from ringcubes.kinds import is_between, is_row, is_sign
@@ -36,9 +37,15 @@ def place_of(crossing, slot):
     return slots_of(crossing).index(slot)
 
 
-def arc_at(crossing, place):
-    """The arc at this place."""
-    return crossing[slots_of(crossing)[place]]
+def star_of(crossing):
+    """The star of a crossing: for each place, in sequence, its arc and whether this arc begins there."""
+    return [(crossing[slot], slot in (UNDER_OUT, OVER_OUT)) for slot in slots_of(crossing)]
+
+
+def exchanged_row(crossing):
+    """The crossing with over and under exchanged."""
+    sign, under_in, under_out, over_in, over_out = crossing
+    return -sign, over_in, over_out, under_in, under_out
 
 
 def into_spots(crossings):
@@ -59,17 +66,15 @@ def out_spots(crossings):
     return found
 
 
-def arcs_of(crossings):
+def arcs_of(stars):
     """The ascending tuple of all arcs that come."""
-    return tuple(sorted({arc for crossing in crossings for arc in crossing[1:]}))
+    return tuple(sorted({arc for star in stars for arc, _ in star}))
 
 
-def is_tied(crossings):
-    """Whether each arc that comes goes out of a crossing just once and into one just once."""
-    goes_in = [crossing[slot] for crossing in crossings for slot in (UNDER_IN, OVER_IN)]
-    comes_out = [crossing[slot] for crossing in crossings for slot in (UNDER_OUT, OVER_OUT)]
-    each = list(arcs_of(crossings))
-    return sorted(goes_in) == each and sorted(comes_out) == each
+def is_tied(stars):
+    """Whether each arc that comes begins just once and ends just once."""
+    ends = [end for star in stars for end in star]
+    return sorted(ends) == [(arc, begins) for arc in arcs_of(stars) for begins in (False, True)]
 
 
 def other_end(crossings, into, out, index, slot):
@@ -107,26 +112,34 @@ def lots(members, pairs):
 
 def piece_rows(crossings):
     """The pieces: ascending tuples of indexes of crossings that hang together by arcs."""
-    into = into_spots(crossings)
-    out = out_spots(crossings)
-    return lots(list(range(len(crossings))), [(out[arc][0], into[arc][0]) for arc in into])
+    return star_pieces([star_of(crossing) for crossing in crossings])
 
 
-def corner_behind(crossings, into, out, corner):
-    """The corner that follows this one."""
+def star_spots(stars):
+    """A dict from each end (arc, whether the arc begins there) to the pair (index of its star, place)."""
+    return {end: (index, place) for index, star in enumerate(stars) for place, end in enumerate(star)}
+
+
+def star_pieces(stars):
+    """The pieces: ascending tuples of indexes of stars that hang together by arcs."""
+    spots = star_spots(stars)
+    pairs = [(spots[(arc, True)][0], spots[(arc, False)][0]) for arc, begins in spots if begins]
+    return lots(list(range(len(stars))), pairs)
+
+
+def corner_behind(stars, spots, corner):
+    """The corner that follows this one; spots are those of the stars."""
     index, place = corner
-    slot = slots_of(crossings[index])[(place + 1) % 4]
-    far, far_slot = other_end(crossings, into, out, index, slot)
-    return far, place_of(crossings[far], far_slot)
+    arc, begins = stars[index][(place + 1) % len(stars[index])]
+    return spots[(arc, not begins)]
 
 
-def face_rows(crossings):
-    """The ascending list of all faces."""
-    into = into_spots(crossings)
-    out = out_spots(crossings)
+def star_faces(stars):
+    """The ascending list of all faces, of whatever number of ends the stars have."""
+    spots = star_spots(stars)
     seen = set()
     found = []
-    for start in [(index, place) for index in range(len(crossings)) for place in range(4)]:
+    for start in [(index, place) for index, star in enumerate(stars) for place in range(len(star))]:
         if start in seen:
             continue
         face = []
@@ -134,15 +147,24 @@ def face_rows(crossings):
         while corner not in seen:
             seen.add(corner)
             face.append(corner)
-            corner = corner_behind(crossings, into, out, corner)
+            corner = corner_behind(stars, spots, corner)
         found.append(tuple(face))
     return found
 
 
-def is_plane(crossings):
-    """Whether the corners of each piece of n crossings lie on n + 2 faces."""
-    starts = [face[0][0] for face in face_rows(crossings)]
-    for piece in piece_rows(crossings):
-        if len([index for index in starts if index in piece]) != len(piece) + 2:
+def face_rows(crossings):
+    """The ascending list of all faces."""
+    return star_faces([star_of(crossing) for crossing in crossings])
+
+
+def is_plane(stars):
+    """Whether the corners of each piece lie on as many faces as they do in the plane.
+
+    These are n + 2 for n crossings, as each star has half as many arcs as ends.
+    """
+    starts = [face[0][0] for face in star_faces(stars)]
+    for piece in star_pieces(stars):
+        corners = sum([len(stars[index]) for index in piece])
+        if len([index for index in starts if index in piece]) != 2 - len(piece) + corners // 2:
             return False
     return True

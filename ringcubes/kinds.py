@@ -18,6 +18,13 @@ def is_index(thing, many):
     return is_between(thing, 0, many - 1)
 
 
+def are_indexes(thing, many):
+    """Whether thing is an ascending tuple of different indexes of something with so many items."""
+    if not isinstance(thing, tuple) or not all([is_index(index, many) for index in thing]):
+        return False
+    return all([less < more for less, more in zip(thing, thing[1:])])
+
+
 def is_sign(thing):
     """Whether thing is the number 1 or the number -1."""
     return is_number(thing) and thing in (1, -1)

@@ -1,7 +1,7 @@
 """Drawings parted at a crossing, and the ring of three rooms."""
 
 from ringcubes.drawings import Drawing, arcs_behind, checked_drawing, need_crossing, need_cube, need_drawing, ways
-from ringcubes.ends import OVER_IN, OVER_OUT, UNDER_IN, UNDER_OUT
+from ringcubes.ends import OVER_IN, OVER_OUT, UNDER_IN, UNDER_OUT, exchanged_row
 from ringcubes.kinds import ascending, need_prime
 from ringcubes.layers import step_ranks
 from ringcubes.rings import keeps_directions
@@ -58,8 +58,7 @@ def exchanged(drawing, crossing):
     need_drawing(drawing)
     need_crossing(drawing, crossing)
     rows = list(drawing.crossings)
-    s, a, b, c, d = rows[crossing]
-    rows[crossing] = (-s, c, d, a, b)
+    rows[crossing] = exchanged_row(rows[crossing])
     return Drawing(rows, drawing.rings)
 
 

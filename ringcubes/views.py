@@ -1,7 +1,7 @@
 """Drawings seen otherwise: mirrored, turned, with other names and sequences."""
 
 from ringcubes.drawings import Drawing, need_drawing, ways
-from ringcubes.ends import is_arc
+from ringcubes.ends import exchanged_row, is_arc
 from ringcubes.errors import BadOrder, BadTable, BadWay
 from ringcubes.kinds import is_index, is_list
 from ringcubes.likeness import likeness
@@ -11,7 +11,7 @@ from ringcubes.strands import turned_rows
 def mirrored(drawing):
     """The drawing with over and under exchanged at each crossing."""
     need_drawing(drawing)
-    return Drawing([(-s, c, d, a, b) for s, a, b, c, d in drawing.crossings], drawing.rings)
+    return Drawing([exchanged_row(crossing) for crossing in drawing.crossings], drawing.rings)
 
 
 def turned_about(drawing):

@@ -20,7 +20,14 @@ INTERFACE = {
     "dots": "dotted dots_bridge", "papers": "move_paper row_paper", "alikes": "alike_paper",
     "longs": "long_rooms long_whole",
     "makings": "side_by_side joined_at rooms_product whole_product mirrored_whole",
-    "partings": "parted exchanged ring_ranks"}
+    "partings": "parted exchanged ring_ranks",
+    "alternates": "is_alternate idle_crossings alternated", "webs": "web_rows woven",
+    "shadeforms": "shade_form form_sign signature determinant", "webtrees": "trees tree_spot tree_spots",
+    "twolines": "halved_row told_by_trees", "rules": "rule_step rule_kind", "spreads": "spread",
+    "leftovers": "rule_left", "ownsums": "own_choice own_hues own_sum s_number", "ringbounds": "ring_bounds",
+    "fades": "fades longest_fade rooms_by_fades exchange_bound", "ruleways": "moved_rule scaled_rule rule_way",
+    "matchings": "matchings sheets", "surfaces": "put_behind", "patches": "Patch patch_of drawing_of",
+    "chains": "Chain chain_of", "joins": "patch_beside patch_turned patch_tied patch_mirrored"}
 OUTSIDE = {"heapq": "heappush heappop", "math": "gcd comb lcm isqrt", "itertools": "product combinations permutations"}
 BUILTINS = ("len range enumerate zip min max sum abs sorted reversed int str bool list tuple dict set isinstance ord "
             "repr any all divmod ValueError").split()
