@@ -2,7 +2,7 @@
 
 from ringcubes.ends import arcs_of, is_crossing, is_plane, is_tied, piece_rows, star_of
 from ringcubes.errors import BadArc, BadCrossing, BadDrawing, BadWay, TooMany
-from ringcubes.kinds import is_between, is_index, is_list, is_number
+from ringcubes.kinds import is_between, is_index, is_list, is_number, need_prime
 
 MOST_CROSSINGS = 20
 MOST_RINGS = 8
@@ -56,6 +56,13 @@ def need_cube(drawing):
     """Raise TooMany(10) for more crossings than the whole cube is worked out for."""
     if len(drawing.crossings) > MOST_OF_CUBE:
         raise TooMany(MOST_OF_CUBE)
+
+
+def need_prime_and_cube(prime, drawing):
+    """Raise BadPrime, BadDrawing(None), then TooMany(10) for more crossings than the whole cube is worked out for."""
+    need_prime(prime)
+    need_drawing(drawing)
+    need_cube(drawing)
 
 
 def checked_drawing(crossings, rings):

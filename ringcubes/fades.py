@@ -1,6 +1,6 @@
 """Parts that are free and parts that fade, where the rule (h, 0) has a letter h."""
 
-from ringcubes.drawings import need_cube, need_drawing
+from ringcubes.drawings import need_cube, need_drawing, need_prime_and_cube
 from ringcubes.errors import BadTable
 from ringcubes.kinds import ascending, is_number, is_row, is_spot, need_prime
 from ringcubes.ownsums import OWN_RULE, s_at
@@ -10,10 +10,8 @@ from ringcubes.ringbounds import need_one_way
 
 def fades(prime, drawing):
     """The ascending dict from pairs (height, weight) to pairs (free, lengths)."""
-    need_prime(prime)
-    need_drawing(drawing)
-    need_cube(drawing)
-    # Taken for 1, the letter leaves the weights to tell its powers: a pair of states so many of them apart.
+    need_prime_and_cube(prime, drawing)
+    # With 1 in the place of the letter nothing is lost: the weights of both states of a pair tell its power.
     alone, pairs = paired(prime, OWN_RULE, drawing)
     lengths = {spot: () for spot in alone}
     for height, weight, length in sorted(pairs):
@@ -30,9 +28,7 @@ def longest(prime, drawing):
 
 def longest_fade(prime, drawing):
     """The greatest length of what fades, 0 if nothing does."""
-    need_prime(prime)
-    need_drawing(drawing)
-    need_cube(drawing)
+    need_prime_and_cube(prime, drawing)
     return longest(prime, drawing)
 
 

@@ -1,16 +1,14 @@
 """What the step by a rule leaves, by heights alone."""
 
-from ringcubes.drawings import need_cube, need_drawing
-from ringcubes.kinds import ascending, need_prime
+from ringcubes.drawings import need_cube
+from ringcubes.kinds import ascending
 from ringcubes.pairings import paired
-from ringcubes.rulesteps import need_rule
+from ringcubes.rulesteps import need_ruled
 
 
 def rule_left(prime, rule, drawing):
     """The ascending dict from heights to how much the step by a rule leaves there, over a prime."""
-    need_prime(prime)
-    need_rule(rule)
-    need_drawing(drawing)
+    need_ruled(prime, rule, drawing)
     need_cube(drawing)
     alone, _ = paired(prime, rule, drawing)
     found = {}

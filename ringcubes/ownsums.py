@@ -1,7 +1,6 @@
 """The own sum of a drawing, and the number s, the weight at which it stays."""
 
-from ringcubes.drawings import need_cube, need_drawing
-from ringcubes.kinds import need_prime
+from ringcubes.drawings import need_drawing, need_prime_and_cube
 from ringcubes.owns import own_bits, own_rings, own_ties
 from ringcubes.pairings import Pairing, bare_cube
 
@@ -52,9 +51,7 @@ def own_states(prime, drawing):
 
 def own_sum(prime, drawing):
     """The ascending dict from states with the own choice to numbers that the rule (1, 0) leads to 0."""
-    need_prime(prime)
-    need_drawing(drawing)
-    need_cube(drawing)
+    need_prime_and_cube(prime, drawing)
     return own_states(prime, drawing)
 
 
@@ -72,7 +69,5 @@ def s_at(prime, drawing):
 
 def s_number(prime, drawing):
     """One more than the greatest weight from which on all states of the own sum, less what the step makes, are."""
-    need_prime(prime)
-    need_drawing(drawing)
-    need_cube(drawing)
+    need_prime_and_cube(prime, drawing)
     return s_at(prime, drawing)

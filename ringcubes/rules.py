@@ -1,18 +1,15 @@
 """Other rules by which marks are joined and split."""
 
-from ringcubes.drawings import need_drawing
 from ringcubes.errors import BadState
 from ringcubes.kinds import ascending, need_prime
-from ringcubes.rulesteps import RuleCube, need_rule
+from ringcubes.rulesteps import RuleCube, need_rule, need_ruled
 
 KINDS = ("none", "double", "two")
 
 
 def rule_step(prime, rule, drawing, state):
     """The ascending dict from states to how often the step by a rule leads a state there."""
-    need_prime(prime)
-    need_rule(rule)
-    need_drawing(drawing)
+    need_ruled(prime, rule, drawing)
     cube = RuleCube(prime, rule, drawing)
     if not cube.has_state(state):
         raise BadState("no state of the drawing")

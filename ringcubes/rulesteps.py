@@ -1,7 +1,8 @@
 """The cube of a drawing with the step by another rule, over a prime."""
 
+from ringcubes.drawings import need_drawing
 from ringcubes.errors import BadRule
-from ringcubes.kinds import is_spot
+from ringcubes.kinds import is_spot, need_prime
 from ringcubes.steps import Cube, with_one, with_two, without_two
 
 
@@ -9,6 +10,13 @@ def need_rule(rule):
     """Raise BadRule unless rule is a pair of numbers, a tuple."""
     if not is_spot(rule):
         raise BadRule("no pair of numbers")
+
+
+def need_ruled(prime, rule, drawing):
+    """Raise BadPrime, BadRule, then BadDrawing unless all are such."""
+    need_prime(prime)
+    need_rule(rule)
+    need_drawing(drawing)
 
 
 def times_kept(prime, outcomes):
