@@ -120,6 +120,8 @@ class ChainTest(unittest.TestCase):
             self.assertEqual(told_error(Chain, 3, 4, [ENTRIES[0], thing], None), ("BadChain", "entries"), thing)
         for thing in NEAR:
             self.assertEqual(told_error(Chain, 3, 2, [(0, 0, thing)], None), ("BadChain", "entries"), thing)
+            if isinstance(thing, tuple) and len(thing) in (4, 6):
+                self.assertEqual(told_error(Chain, 3, len(thing), [(0, 0, thing)], None), ("BadChain", "entries"), thing)
 
     def test_wrong_steps(self):
         for thing in NO_LISTS:

@@ -74,6 +74,10 @@ class SheetsTest(unittest.TestCase):
         for thing in NEAR:
             self.assertEqual(told_error(sheets, thing, (1, 0)), ("BadMatching",), thing)
             self.assertEqual(told_error(sheets, (1, 0), thing), ("BadMatching",), thing)
+            self.assertEqual(told_error(sheets, thing, thing), ("BadMatching",), thing)
+        for mates in itertools.product(range(4), repeat=4):
+            goal = None if mates in plain_matchings(4) else ("BadMatching",)
+            self.assertEqual(told_error(sheets, mates, mates), goal, mates)
         self.assertEqual(told_error(sheets, (), (1, 0)), ("BadMatching",))
         self.assertEqual(told_error(sheets, (1, 0), ()), ("BadMatching",))
         self.assertEqual(told_error(sheets, (1, 0, 3, 2), (1, 0)), ("BadMatching",))

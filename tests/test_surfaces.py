@@ -130,7 +130,7 @@ class PutBehindTest(unittest.TestCase):
         for thing in NO_PRIMES:
             self.assertEqual(told_error(put_behind, thing, None, None, None, None, None), ("BadPrime",), thing)
         for thing in NEAR:
-            for row in ((thing, None, None), (TWO, thing, None), (TWO, TWO, thing)):
+            for row in ((thing, None, None), (TWO, thing, None), (TWO, TWO, thing), (thing, thing, thing)):
                 self.assertEqual(told_error(put_behind, 3, *row, None, None), ("BadMatching",), thing)
         for row in ((FLAT, TWO, FLAT), (FLAT, FLAT, TWO), (TWO, FLAT, FLAT), ((), TWO, TWO), (FLAT, FLAT, ())):
             self.assertEqual(told_error(put_behind, 3, *row, PLAIN, PLAIN), ("BadMatching",))

@@ -22,12 +22,15 @@ NO_ROWS = (None, True, 0, "", (), [], [(0, 1)], {True: 1}, {"0": 1}, {(0,): 1}, 
            {0: "1"}, {0: None}, {0: (1,)}, {0: [1]}, {0: 1, 1: False})
 NOT_HALVED = ({0: 1}, {0: 1, 2: -1}, {0: 1, 2: 2}, {0: 1, 2: 1, 4: 1}, {0: 1, 3: 1}, {0: 1, 1: 1}, {0: 1, 2: 1, 5: 1},
               {0: 0, 50: 1, 100: 0}, {0: 1, 4: 1}, {-7: 3, -5: 3, -3: 1})
+# Three rings, each of them linked with both others.
+THREE = woven([[0, 2, 4], [5, 3, 1], [0, 1], [2, 3], [4, 5]])
 HERE = tuple(alternated(drawing, parity) for parity in (0, 1)
              for drawing in (RING, KINK, HOPF, TREFOIL, EIGHT, BORROMEAN, HANDS, NOT_BY_TURNS, way_turned(HOPF, 0),
                              way_turned(HANDS, 0), way_turned(HANDS, 1), way_turned(BORROMEAN, 2),
                              closed_braid(3, [1, 1, 2, 1]), closed_braid(4, [1, 2, 3, 2, 1]),
                              closed_braid(4, [1, 1, 2, 2, 3, 3]), closed_braid(3, [1, 1, 1, 2, 1, 2]),
                              joined_at(TREFOIL, 0, HOPF, 1), closed_braid(2, [1] * 4), closed_braid(2, [1] * 7),
+                             THREE, way_turned(THREE, 0), way_turned(way_turned(THREE, 1), 2),
                              woven([[0, 1, 2], [2, 1, 3, 4], [0, 4, 3]]), closed_braid(3, [1, 2, 1, 2, 2, 1, 1, 2])))
 
 
