@@ -33,15 +33,15 @@ def are_steps(prime, entries, seams, thing):
     return len({(i, j) for i, j, _ in thing}) == len(thing)
 
 
-def level_dots(seams, here, there):
-    """Twice how many dots are level from an entry to another one; it may be no number that can be."""
+def twice_level(seams, here, there):
+    """Twice as many dots as are level from an entry to another one; odd, or below 0, if none are."""
     return there[1] - here[1] - len(here[2]) // 2 + seams.sheet_count(here[2], there[2])
 
 
 def is_level(entries, seams, step):
     """Whether all dots of a step are level."""
     i, j, surface = step
-    twice = level_dots(seams, entries[i], entries[j])
+    twice = twice_level(seams, entries[i], entries[j])
     return all([2 * len(dots) == twice for dots, _ in surface])
 
 
