@@ -13,6 +13,8 @@ OVER_IN = 3
 OVER_OUT = 4
 SLOTS_OF_PLUS = (1, 4, 2, 3)
 SLOTS_OF_MINUS = (1, 3, 2, 4)
+# With each place, by choice 0 and by choice 1 at a crossing of whatever sign, the place that it is joined with.
+PLACES_JOINED = ((1, 0, 3, 2), (3, 2, 1, 0))
 
 
 def is_arc(thing):

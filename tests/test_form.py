@@ -27,7 +27,11 @@ INTERFACE = {
     "leftovers": "rule_left", "ownsums": "own_choice own_hues own_sum s_number", "ringbounds": "ring_bounds",
     "fades": "fades longest_fade rooms_by_fades exchange_bound", "ruleways": "moved_rule scaled_rule rule_way",
     "matchings": "matchings sheets", "surfaces": "put_behind", "patches": "Patch patch_of drawing_of",
-    "chains": "Chain chain_of", "joins": "patch_beside patch_turned patch_tied patch_mirrored"}
+    "chains": "Chain chain_of", "joins": "patch_beside patch_turned patch_tied patch_mirrored",
+    "leasts": "least_numbers is_least", "leastpapers": "is_least_paper least_paper", "between": "maps_between",
+    "gluing": "chain_beside chain_turned chain_mirrored chain_tied patch_numbers rooms_glued", "twists": "twist_row",
+    "odd": "square_kind odd_signs odd_step_rows", "oddrooms": "odd_rooms odd_whole_rooms",
+    "oddlong": "long_odd_rooms long_odd_whole"}
 OUTSIDE = {"heapq": "heappush heappop", "math": "gcd comb lcm isqrt", "itertools": "product combinations permutations"}
 BUILTINS = ("len range enumerate zip min max sum abs sorted reversed int str bool list tuple dict set isinstance ord "
             "repr any all divmod ValueError").split()
