@@ -31,7 +31,11 @@ INTERFACE = {
     "leasts": "least_numbers is_least", "leastpapers": "is_least_paper least_paper", "between": "maps_between",
     "gluing": "chain_beside chain_turned chain_mirrored chain_tied patch_numbers rooms_glued", "twists": "twist_row",
     "odd": "square_kind odd_signs odd_step_rows", "oddrooms": "odd_rooms odd_whole_rooms",
-    "oddlong": "long_odd_rooms long_odd_whole"}
+    "oddlong": "long_odd_rooms long_odd_whole",
+    "films": "is_event event_done film_end film_number film_weight film_back", "filmmaps": "film_map closed_number",
+    "filmtables": "film_table", "filmranks": "film_ranks dot_ranks", "live": "started is_deed LiveDrawing",
+    "drawtexts": "drawing_text drawing_of_text", "deedtexts": "start_text start_of_text deed_text deed_of_text",
+    "journals": "journal_text led_live", "desk": "Desk"}
 OUTSIDE = {"heapq": "heappush heappop", "math": "gcd comb lcm isqrt", "itertools": "product combinations permutations"}
 BUILTINS = ("len range enumerate zip min max sum abs sorted reversed int str bool list tuple dict set isinstance ord "
             "repr any all divmod ValueError").split()
@@ -47,7 +51,7 @@ BARRED = ("register mro elements open input law version_info with_traceback add_
 WORDS = ("typing typing_extensions enum Enum IntEnum StrEnum Flag IntFlag Generic Protocol ABC ABCMeta namedtuple "
          "NamedTuple TypedDict TYPE_CHECKING abstractmethod _wall _WallAttr type").split()
 NODES = (ast.Yield, ast.YieldFrom, ast.Global, ast.Nonlocal, ast.AsyncFunctionDef, ast.Await, ast.Starred, ast.JoinedStr,
-         ast.Match, ast.With, ast.Try, ast.Lambda, ast.NamedExpr, ast.GeneratorExp, ast.Div, ast.Pow)
+         ast.Match, ast.With, ast.Lambda, ast.NamedExpr, ast.GeneratorExp, ast.Div, ast.Pow)
 
 
 def functions(tree):
@@ -179,6 +183,18 @@ class FormTest(unittest.TestCase):
             for sign, side in zip(node.ops, node.comparators):
                 if isinstance(sign, (ast.Is, ast.IsNot)):
                     self.assertIsInstance(side, ast.Constant, (name, node.lineno))
+
+    def test_handlers(self):
+        own = {node.name for node in TREES["errors"].body if isinstance(node, ast.ClassDef)}
+        for name, node in self.each(ast.Try):
+            self.assertFalse(node.finalbody or node.orelse, (name, node.lineno))
+            self.assertEqual(len(node.handlers), 1)
+            handler = node.handlers[0]
+            self.assertIn(handler.type.id, own, (name, node.lineno))
+            self.assertIsNone(handler.name)
+        for name, node in self.each(ast.Raise):
+            self.assertIn(node.exc.func.id, own, (name, node.lineno))
+            self.assertTrue(node.cause is None or node.cause.value is None)
 
     def test_words(self):
         for path in FILES:
