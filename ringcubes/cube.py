@@ -47,13 +47,17 @@ def states(drawing, height, weight):
     return states_at(Cube(drawing), height, weight)
 
 
-def step_rows(drawing, height, weight):
-    """For each state there how many times the step leads it to each one of a height more."""
-    need_spot(drawing, height, weight)
-    cube = Cube(drawing)
+def rows_at(cube, height, weight):
+    """For each state of a cube there how many times its step leads it to each one of a height more."""
     goals = states_at(cube, height + 1, weight)
     rows = []
     for state in states_at(cube, height, weight):
         led = cube.step_from(state)
         rows.append(tuple([led.get(goal, 0) for goal in goals]))
     return tuple(rows)
+
+
+def step_rows(drawing, height, weight):
+    """For each state there how many times the step leads it to each one of a height more."""
+    need_spot(drawing, height, weight)
+    return rows_at(Cube(drawing), height, weight)

@@ -31,11 +31,12 @@ def start_told(text):
     rows = [numbers_told(part.split(" ")) for part in rest.split(" / ")]
     if word not in ("drawing", "braid") or None in rows:
         return None
-    number, others = rows[0][0], tuple(rows[0][1:])
+    number = rows[0][0]
     if word == "braid":
-        return word, number, others
-    crossings = [row for row in [others] + [tuple(row) for row in rows[1:]] if row]
-    return word, tuple(crossings), number
+        return word, number, tuple(rows[0][1:])
+    # Where there are no crossings at all, nothing stands behind the number.
+    rows[0] = rows[0][1:]
+    return word, tuple([tuple(row) for row in rows if row]), number
 
 
 def start_of_text(text):

@@ -1,6 +1,6 @@
 """Odd marks: the kinds of squares, the signs of odd edges, and the rows of the odd step."""
 
-from ringcubes.cube import states_at
+from ringcubes.cube import rows_at
 from ringcubes.drawings import need_cube
 from ringcubes.errors import BadCrossing
 from ringcubes.kinds import is_index, need_number
@@ -39,9 +39,4 @@ def odd_step_rows(drawing, arrows, height, weight):
     need_number(height, "height")
     need_number(weight, "weight")
     need_cube(drawing)
-    goals = states_at(cube, height + 1, weight)
-    rows = []
-    for state in states_at(cube, height, weight):
-        led = cube.step_from(state)
-        rows.append(tuple([led.get(goal, 0) for goal in goals]))
-    return tuple(rows)
+    return rows_at(cube, height, weight)

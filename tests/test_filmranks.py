@@ -3,7 +3,6 @@ import unittest
 from ringcubes.braids import closed_braid
 from ringcubes.cube import states
 from ringcubes.drawings import Drawing, ways
-from ringcubes.faces import faces
 from ringcubes.filmmaps import film_map
 from ringcubes.filmranks import dot_ranks, film_ranks
 from ringcubes.films import film_back, film_end, film_weight
@@ -15,7 +14,7 @@ from tests.samples import (BORROMEAN, EIGHT, HOPF, KINK, KINK_BACK, NO_DRAWINGS,
                            TREFOIL, by_spots, is_ascending, plain_rank, plain_rows, same_kinds, told_error)
 from tests.test_films import NO_EVENTS, NO_FILMS
 from tests.test_rooms import NO_PRIMES
-from tests.walks import moves_let, walk
+from tests.walks import moves_let, touched_arcs, walk
 
 FEW = (NOTHING, RING, KINK, KINK_BACK, HOPF, TREFOIL, closed_braid(3, [1, -2]), Drawing(HOPF.crossings, 1),
        closed_braid(4, [1, 3]))
@@ -37,20 +36,6 @@ def plain_ranks(prime, drawing, film):
         if many:
             found[(height, weight)] = many
     return found
-
-
-def touched_arcs(drawing, move):
-    """The arcs that a move touches."""
-    rows = drawing.crossings
-    if move[0] == "kinked":
-        return [move[1]]
-    if move[0] == "laid_over":
-        return [side[0] for side in move[1:]]
-    if move[0] == "slid":
-        return [arc for index, _ in faces(drawing)[move[1]] for arc in rows[index][1:]]
-    if move[0] == "ring_kinked":
-        return []
-    return [arc for index in move[1:] for arc in rows[index][1:]]
 
 
 class FilmRanksTest(unittest.TestCase):

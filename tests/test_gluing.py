@@ -21,7 +21,7 @@ from tests.samples import (EIGHT, KINK, NO_DRAWINGS, NO_NUMBERS, SAMPLES, TREFOI
 from tests.test_leasts import FLAT, NO_CHAINS, TALL, TWO
 from tests.test_patches import NO_PATCHES
 from tests.test_rooms import NO_PRIMES
-from tests.walks import walk
+from tests.walks import moves_let, touched_arcs, walk
 
 CHAINS = some_chains(40)
 
@@ -316,6 +316,19 @@ class PatchNumbersTest(unittest.TestCase):
             for prime in (2, 3):
                 self.assertEqual(patch_numbers(prime, braid_patch(4, one)), patch_numbers(prime, braid_patch(4, other)))
 
+    def test_moves_of_strings_cut_open(self):
+        words = set()
+        for seed, drawing in enumerate((TREFOIL, EIGHT, closed_braid(3, [1, 1, -2, 2, 1, 2]), closed_braid(4, [1, -1, 2, 3, 3]),
+                                        Drawing(closed_braid(3, [1, 2, 1, -2]).crossings, 1), closed_braid(4, [1, 3, 3]))):
+            arc = drawing.arcs[seed % len(drawing.arcs)]
+            for prime in (2, 3):
+                goal = patch_numbers(prime, cut_open(drawing, arc))
+                for move, moved in moves_let(drawing):
+                    if arc not in touched_arcs(drawing, move):
+                        words.add(move[0])
+                        self.assertEqual(patch_numbers(prime, cut_open(moved, arc)), goal, move)
+        self.assertEqual(len(words), 6)
+
     def test_rim_to_rim(self):
         nested = Patch(CROSS.crossings, ((9, 1),) + CROSS.rim + ((9, -1),), 1)
         self.assertEqual(patch_numbers(3, nested), least_numbers(chain_of(3, nested)))
@@ -344,6 +357,13 @@ def kinked_patch(patch, arc, sign, over):
     rim = [(last, -1) if end == (arc, -1) else end for end in patch.rim]
     rows.append((sign, loop, last, arc, loop) if over else (sign, arc, loop, loop, last))
     return Patch(rows, rim, patch.rings)
+
+
+def cut_open(drawing, arc):
+    """The patch of a drawing with one arc cut, its two ends at the rim."""
+    fresh = next(name for name in range(100) if name not in drawing.arcs)
+    rows = [(s, fresh if a == arc else a, b, fresh if c == arc else c, d) for s, a, b, c, d in drawing.crossings]
+    return Patch(rows, [(fresh, 1), (arc, -1)], drawing.rings)
 
 
 class RoomsGluedTest(unittest.TestCase):

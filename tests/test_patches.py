@@ -1,9 +1,10 @@
+import random
 import unittest
 
 from ringcubes.braids import closed_braid
 from ringcubes.drawings import Drawing
 from ringcubes.patches import Patch, drawing_of, patch_of
-from tests.patchworks import (BIGGER, CROSS, CROSS_BACK, EMPTY, KINKED, PATCHES, STRAND, braid_patch)
+from tests.patchworks import (BIGGER, CROSS, CROSS_BACK, EMPTY, KINKED, PATCHES, STRAND, braid_patch, some_patch)
 from tests.samples import (HOPF, KINK, NO_DRAWINGS, NO_NUMBERS, NOTHING, SAMPLES, TREFOIL, ends_of, same_kinds, told_error)
 
 NO_PATCHES = (None, True, 0, "patch", (), [], {}, ((), (), 0), Patch, HOPF)
@@ -44,6 +45,13 @@ def plain_in_plane(crossings, rim):
         if faces_of[min(part)] != goal:
             return False
     return True
+
+
+def plain_tied_ends(crossings, rim):
+    """Whether each arc that comes begins just once and ends just once."""
+    begins = [arc for row in crossings for arc in (row[2], row[4])] + [arc for arc, way in rim if way == 1]
+    ends = [arc for row in crossings for arc in (row[1], row[3])] + [arc for arc, way in rim if way == -1]
+    return sorted(begins) == sorted(ends) == sorted(set(begins))
 
 
 class PatchTest(unittest.TestCase):
@@ -109,6 +117,55 @@ class PatchTest(unittest.TestCase):
             self.assertEqual(Patch(CROSS.crossings, rim, 0).arcs, (0, 1, 2, 3, 9))
         across = [(9, 1)] + TURNS[:2] + [(9, -1)] + TURNS[2:]
         self.assertEqual(told_error(Patch, CROSS.crossings, across, 0), ("BadPatch", "plane"))
+
+    def test_many_kinks(self):
+        for many in (0, 1, 7, 20):
+            rows = [(1 - 2 * (at % 2), 2 * at, 2 * at + 1, 2 * at + 1, 2 * at + 2) for at in range(many)]
+            patch = Patch(rows, [(0, 1), (2 * many, -1)], 0)
+            self.assertEqual((patch.plus, patch.minus, len(patch.arcs)), ((many + 1) // 2, many // 2, 2 * many + 1))
+        rows.append((1, 40, 41, 41, 42))
+        self.assertEqual(told_error(Patch, rows, [(0, 1), (42, -1)], 0), ("BadPatch", "crossings"))
+
+    def test_one_thing_spoiled(self):
+        """Patches that have grown, with one thing changed: what is wrong is told by the words of the document."""
+        met = {}
+        for seed in range(60):
+            patch = some_patch(seed + 500, 6)
+            chance = random.Random(seed)
+            for _ in range(30):
+                rows, rim = [list(row) for row in patch.crossings], [list(end) for end in patch.rim]
+                kind = chance.choice(("sign", "arc", "rim arc", "way", "swap", "drop", "double", "turn"))
+                if kind == "sign" and rows:
+                    row = chance.choice(rows)
+                    row[0] = -row[0]
+                elif kind == "arc" and rows:
+                    chance.choice(rows)[chance.randrange(1, 5)] = chance.randrange(12)
+                elif kind == "rim arc" and rim:
+                    chance.choice(rim)[0] = chance.randrange(12)
+                elif kind == "way" and rim:
+                    end = chance.choice(rim)
+                    end[1] = -end[1]
+                elif kind == "swap" and rim:
+                    one, other = chance.randrange(len(rim)), chance.randrange(len(rim))
+                    rim[one], rim[other] = rim[other], rim[one]
+                elif kind == "drop" and rows:
+                    rows.pop(chance.randrange(len(rows)))
+                elif kind == "double" and rim:
+                    rim.append(list(chance.choice(rim)))
+                elif kind == "turn" and rows:
+                    row = chance.choice(rows)
+                    row[1], row[2], row[3], row[4] = row[3], row[4], row[1], row[2]
+                rows, rim = [tuple(row) for row in rows], [tuple(end) for end in rim]
+                error = None
+                if len(rim) > 12:
+                    error = ("BadPatch", "rim")
+                elif not plain_tied_ends(rows, rim):
+                    error = ("BadPatch", "arcs")
+                elif not plain_in_plane(rows, rim):
+                    error = ("BadPatch", "plane")
+                met[error] = met.get(error, 0) + 1
+                self.assertEqual(told_error(Patch, rows, rim, 0), error, (rows, rim))
+        self.assertGreater(min(met[None], met[("BadPatch", "arcs")], met[("BadPatch", "plane")]), 50)
 
     def test_several_pieces(self):
         rows = list(CROSS.crossings) + [(1, 4, 5, 5, 4), (-1, 6, 7, 7, 8)]

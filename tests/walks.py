@@ -40,6 +40,20 @@ def moves_let(drawing):
     return found
 
 
+def touched_arcs(drawing, move):
+    """The arcs that a move touches."""
+    rows = drawing.crossings
+    if move[0] == "kinked":
+        return [move[1]]
+    if move[0] == "laid_over":
+        return [side[0] for side in move[1:]]
+    if move[0] == "slid":
+        return [arc for index, _ in faces(drawing)[move[1]] for arc in rows[index][1:]]
+    if move[0] == "ring_kinked":
+        return []
+    return [arc for index in move[1:] for arc in rows[index][1:]]
+
+
 def walk(drawing, many, most, seed):
     """A row of so many pairs (move, moved drawing), with at most so many crossings on the way.
 
