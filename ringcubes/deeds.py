@@ -48,14 +48,14 @@ def with_ring(told):
 
 
 def without_ring(told):
-    """The rooms of which those told are made by one ring more."""
+    """The rooms of which those told, ascending, are made by one ring more."""
     found = {}
-    for height, weight in sorted(told):
+    for height, weight in told:
         # What has the least weight of all that is left comes of a mark -1 of the ring.
         left = told[(height, weight)] - found.get((height, weight - 1), 0)
         if left > 0:
             found[(height, weight + 1)] = left
-    return ascending(found)
+    return found
 
 
 def rooms_led(told, deed, ahead, behind):

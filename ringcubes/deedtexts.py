@@ -1,8 +1,6 @@
 """Starts and deeds as texts of one line."""
 
-from ringcubes.deeds import OTHER_DEEDS
 from ringcubes.errors import BadDeed, BadText
-from ringcubes.events import form_of
 from ringcubes.live import can_start, is_deed, started
 from ringcubes.numerals import numbers_text, numbers_told
 
@@ -29,7 +27,7 @@ def start_told(text):
     """The start that a text seems to tell; None if it tells none."""
     word, _, rest = text.partition(" ")
     rows = [numbers_told(part.split(" ")) for part in rest.split(" / ")]
-    if word not in ("drawing", "braid") or None in rows:
+    if None in rows:
         return None
     number = rows[0][0]
     if word == "braid":
@@ -42,8 +40,6 @@ def start_told(text):
 def start_of_text(text):
     """The start with this text, lists as tuples."""
     start = start_told(text) if isinstance(text, str) else None
-    if start is None:
-        raise BadText(0)
     # What was told loosely, as by a stroke too many, has another text.
     if not can_start(start) or text_of_start(start) != text:
         raise BadText(0)
@@ -78,7 +74,7 @@ def deed_told(text):
     words = text.split(" ")
     word = words[0]
     numbers = numbers_told(words[1:])
-    if numbers is None or form_of(word) is None and word not in OTHER_DEEDS:
+    if numbers is None:
         return None
     if word in ("saddle", "laid_over"):
         return word, tuple(numbers[:2]), tuple(numbers[2:])
@@ -93,6 +89,6 @@ def deed_of_text(text):
     if word == "beside":
         return word, start_of_text(rest)
     deed = deed_told(text)
-    if deed is None or not is_deed(deed):
+    if not is_deed(deed):
         raise BadText(0)
     return deed

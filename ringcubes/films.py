@@ -38,8 +38,7 @@ def event_rings(event, rings):
         return [(event[-1], rings + 1)]
     if word == "split":
         return [(event[1], rings), (event[2], rings + 1)]
-    if word == "join":
-        return [(event[1], rings), (event[2], rings)]
+    # Of a join the first one is below the second one.
     return [(event[-1], rings)]
 
 

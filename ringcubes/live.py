@@ -16,7 +16,7 @@ MOST_LETTERS = 8
 
 def started(start):
     """The drawing of a start."""
-    if not is_row(start, 3) or not is_worded(start) or start[0] not in ("drawing", "braid"):
+    if not is_row(start, 3) or start[0] not in ("drawing", "braid"):
         raise BadStart("no start")
     if start[0] == "drawing":
         return Drawing(start[1], start[2])
@@ -149,7 +149,7 @@ class LiveDrawing:
         told = counts_of(self.drawing)
         told["older"] = None
         if len(self.drawing.crossings) <= MOST_OF_CUBE:
-            told["older"] = tuple(list(older_row(self.drawing).items()))
+            told["older"] = tuple(older_row(self.drawing).items())
         return ascending(told)
 
     def watch(self, name, prime):

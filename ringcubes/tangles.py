@@ -75,7 +75,7 @@ def piece_counts(prime, patch, piece):
     found = {}
     for height, weight, mates in draft.entries:
         pairs = [(place_of[arcs[at]], place_of[arcs[mate]]) for at, mate in enumerate(mates)]
-        key = (height, weight, tuple(sorted(pairs)))
+        key = (height, weight, tuple(pairs))
         found[key] = found.get(key, 0) + 1
     return found
 

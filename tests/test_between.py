@@ -132,14 +132,16 @@ class BetweenTest(unittest.TestCase):
 
     def test_longer_patches(self):
         for one, other in ((twist_row(5), twist_row(-3)), (twist_row(7), twist_row(2)), (twist_row(-6), twist_row(0))):
-            goal = rooms(2, both_sides(one, other))
-            told = maps_between(chain_of(2, one), chain_of(2, other))
-            self.assertEqual(told, {(i, j - 2): many for (i, j), many in goal.items()})
+            for prime in (2, 3, 97):
+                goal = rooms(prime, both_sides(one, other))
+                told = maps_between(chain_of(prime, one), chain_of(prime, other))
+                self.assertEqual(told, {(i, j - 2): many for (i, j), many in goal.items()})
 
     def test_refuses(self):
         chain = chain_of(3, CROSS_BACK)
         for thing in NO_CHAINS:
             self.assertEqual(told_error(maps_between, thing, None), ("BadChain", None))
+            self.assertEqual(told_error(maps_between, thing, chain), ("BadChain", None))
             self.assertEqual(told_error(maps_between, chain, thing), ("BadChain", None))
         for other in (chain_of(2, CROSS_BACK), chain_of(3, STRAND), chain_of(3, patch_of(HOPF)), Chain(3, 0, [], [])):
             self.assertEqual(told_error(maps_between, chain, other), ("BadChain", "fit"))

@@ -151,6 +151,20 @@ class WaysTest(unittest.TestCase):
         self.assertEqual(sorted(len(way) for way in ways(drawing)), [4, 6])
         self.assertEqual(linking(drawing, 0, 1), 2)
 
+    def test_linking_by_the_words_of_the_document(self):
+        met = set()
+        for drawing in SAMPLES + (closed_braid(3, [1, 1, 1, 1, 2]), closed_braid(3, [1, 1, 2, 2, 2]), HANDS,
+                                  closed_braid(4, [1, 1, -2, -2, 3, 3, 3, 3, 1, -1])):
+            rows = ways(drawing)
+            for one in range(len(rows)):
+                for other in range(len(rows)):
+                    if one != other:
+                        signs = [sign for sign, under, _, over, _ in drawing.crossings
+                                 if under in rows[one] and over in rows[other] or under in rows[other] and over in rows[one]]
+                        self.assertEqual(2 * linking(drawing, one, other), sum(signs))
+                        met.add(sum(signs))
+        self.assertGreater(len(met), 3)
+
     def test_linking_wrong_indexes(self):
         for one, other in ((0, 0), (0, 2), (2, 0), (-1, 0), (0, -1), (1, 1)):
             self.assertEqual(told_error(linking, HOPF, one, other), ("BadWay",))

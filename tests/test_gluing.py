@@ -102,6 +102,7 @@ class BesideTest(unittest.TestCase):
         self.assertEqual(told_error(chain_beside, Chain(3, 12, [], []), seven), ("BadChain", "fit"))
         for thing in NO_CHAINS:
             self.assertEqual(told_error(chain_beside, thing, None), ("BadChain", None))
+            self.assertEqual(told_error(chain_beside, thing, six), ("BadChain", None))
             self.assertEqual(told_error(chain_beside, six, thing), ("BadChain", None))
         self.assertEqual(chain_beside(other=six, one=Chain(2, 2, [], [])).places, 8)
 

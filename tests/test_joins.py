@@ -67,6 +67,7 @@ class BesideTest(unittest.TestCase):
         for thing in NO_PATCHES:
             self.assertEqual(told_error(patch_beside, thing, None), ("BadPatch", None))
             self.assertEqual(told_error(patch_beside, WIDE, thing), ("BadPatch", None))
+            self.assertEqual(told_error(patch_beside, thing, WIDE), ("BadPatch", None))
         self.assertEqual(patch_beside(other=STRAND, one=EMPTY), STRAND)
 
 

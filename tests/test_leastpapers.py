@@ -198,6 +198,22 @@ class IsLeastPaperTest(unittest.TestCase):
         self.assertTrue(is_least_paper(chain, (chain, cross, cross, ())))
         self.assertFalse(is_least_paper(chain, (chain, cross, good, ())))
 
+    def test_one_pair_twice(self):
+        chain = Chain(3, 4, [(0, 0, FLAT), (0, 1, TALL)], [])
+        double = tuple((at, at, (((), 2),)) for at in range(2))
+        self.assertTrue(is_least_paper(chain, (chain, double, double, ())))
+        # Whichever of both is taken, the other one is too many.
+        for wrong in (((0, 0, PLAIN),) + double, double[:1] + ((1, 1, PLAIN),) + double[1:]):
+            self.assertFalse(is_least_paper(chain, (chain, wrong, double, ())))
+            self.assertFalse(is_least_paper(chain, (chain, double, wrong, ())))
+
+    def test_small_with_more_than_comes_back(self):
+        for chain in (LEAST, WIDE, Chain(2, 0, [], [])):
+            small, there, back, lift = least_paper(chain)
+            wider = Chain(small.prime, small.places, small.entries + ((7, 7, tuple(range(small.places))[::-1]),), small.steps)
+            self.assertEqual(fault_of(chain, (wider, there, back, lift)), "around")
+            self.assertFalse(is_least_paper(chain, (wider, there, back, lift)))
+
     def test_papers_of_other_chains(self):
         for patch in PATCHES[:12]:
             if len(patch.crossings) <= 3:

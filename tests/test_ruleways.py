@@ -91,6 +91,7 @@ class WayTest(unittest.TestCase):
                 self.assertEqual(told_error(call, 3, thing, None), ("BadRule",), thing)
         for thing in NO_RULES:
             self.assertEqual(told_error(rule_way, 3, (0, 0), thing), ("BadRule",), thing)
+            self.assertEqual(told_error(rule_way, 3, thing, (0, 0)), ("BadRule",), thing)
         for thing in NO_NUMBERS:
             self.assertEqual(told_error(moved_rule, 3, (0, 0), thing), ("BadNumber", "number"), thing)
             self.assertEqual(told_error(scaled_rule, 3, (0, 0), thing), ("BadNumber", "number"), thing)

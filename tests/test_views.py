@@ -162,6 +162,12 @@ class ViewsTest(unittest.TestCase):
         self.assertIs(alike(Drawing(three, 0), shuffled(Drawing(three, 0), 5)), True)
         self.assertIs(alike(Drawing(rows, 0), closed_braid(2, [1] * 4)), False)
 
+    def test_a_piece_that_goes_twice_round_another_one(self):
+        rows = closed_braid(2, [1] * 4).crossings
+        one = Drawing(rows + tuple((s, a + 20, b + 20, c + 20, d + 20) for s, a, b, c, d in HOPF.crossings), 0)
+        self.assertIs(alike(one, in_order(one, [4, 5, 0, 1, 2, 3])), True)
+        self.assertIs(alike(in_order(one, [4, 5, 0, 1, 2, 3]), one), True)
+
     def test_nothing_is_changed(self):
         table = {0: 9, 1: 0, 2: 99, 3: 3}
         kept = copy.deepcopy(table)
